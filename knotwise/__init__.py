@@ -1,0 +1,1 @@
+"""Knotwise: a keeper of knots and links."""

@@ -1,0 +1,86 @@
+"""Drawings and small helpers that several tests share."""
+
+import copy
+from itertools import permutations, product
+
+TREFOIL = [[(1, 0, 1), (2, 1, 1), (3, 0, 1), (1, 1, 1), (2, 0, 1), (3, 1, 1)]]
+EIGHT = [[(1, 0, -1), (4, 1, 1), (3, 0, 1), (1, 1, -1), (2, 0, -1), (3, 1, 1), (4, 0, 1), (2, 1, -1)]]
+HOPF = [[(1, 0, 1), (2, 1, 1)], [(1, 1, 1), (2, 0, 1)]]
+HOPF_LEFT = [[(1, 0, -1), (2, 1, -1)], [(1, 1, -1), (2, 0, -1)]]
+LAID = [[(1, 0, 1), (2, 0, -1)], [(1, 1, 1), (2, 1, -1)]]
+CURL = [[(1, 0, 1), (1, 1, 1)]]
+CURL_LEFT = [[(1, 0, -1), (1, 1, -1)]]
+TWISTED = [[(1, 0, 1), (2, 0, 1), (1, 1, 1), (2, 1, 1)]]
+HALF_HOPF = [[(1, 0, 1)], [(1, 1, 1)]]
+CHAIN = [
+    [(1, 0, 1), (2, 1, 1)],
+    [(1, 1, 1), (2, 0, 1), (3, 0, -1), (4, 1, -1)],
+    [(3, 1, -1), (4, 0, -1)],
+]
+
+FLAT = [TREFOIL, EIGHT, HOPF, HOPF_LEFT, LAID, CURL, CURL_LEFT, CHAIN, [[]], [[], []], [[], [], []], CURL + [[]]]
+BENT = [TWISTED, HALF_HOPF, HALF_HOPF + [[]], [[]] + TWISTED]
+
+
+def begun_elsewhere(drawing):
+    """The drawing with its rows begun in all ways."""
+    turns = [[row[start:] + row[:start] for start in range(max(1, len(row)))] for row in drawing]
+    return [list(rows) for rows in product(*turns)]
+
+
+def orders(count):
+    """All rings of the passings of count crossings, one for each way in which the first stands first."""
+    spots = [(name, way) for name in range(1, count + 1) for way in (0, 1)]
+    for others in permutations(spots[1:]):
+        yield spots[:1] + list(others)
+
+
+def cut(spots, hands, places):
+    """The row of spots with its hands, cut into rows at the places."""
+    row = [(name, way, hands[name - 1]) for name, way in spots]
+    ends = [0] + list(places) + [len(row)]
+    return [row[start:end] for start, end in zip(ends, ends[1:])]
+
+
+def small_drawings(most=2):
+    """Many drawings of one or two strings with up to so many crossings, flat and not."""
+    for count in range(1, most + 1):
+        for spots in orders(count):
+            for hands in product((1, -1), repeat=count):
+                yield cut(spots, hands, [])
+                for place in range(2 * count + 1):
+                    yield cut(spots, hands, [place])
+
+
+def kept_within(value):
+    """All lists and dicts in a value, itself among them."""
+    found = []
+    if isinstance(value, (list, dict)):
+        found.append(value)
+    if isinstance(value, dict):
+        value = list(value.values())
+    if isinstance(value, (list, tuple)):
+        for part in value:
+            found.extend(kept_within(part))
+    return found
+
+
+def assert_own(case, function, *handed):
+    """What is handed in stays; what is told is new, and changing it changes nothing told later."""
+    before = copy.deepcopy(handed)
+    told = function(*handed)
+    case.assertEqual(handed, before)
+    first = copy.deepcopy(told)
+    of_handed = [id(part) for part in kept_within(handed)]
+    parts = kept_within(told)
+    case.assertEqual(len(set(id(part) for part in parts)), len(parts))
+    for part in parts:
+        case.assertNotIn(id(part), of_handed)
+    for part in parts:
+        part.clear()
+    case.assertEqual(handed, before)
+    again = function(*handed)
+    case.assertEqual(again, first)
+    for part in kept_within(handed):
+        part.clear()
+    case.assertEqual(again, first)
