@@ -28,6 +28,8 @@ quit setattr super vars sys""".split()
 
 KEYWORDS = {"sorted": ["key", "reverse"], "min": ["key", "default"], "max": ["key", "default"], "sum": ["start"],
             "enumerate": ["start"], "zip": ["strict"]}
+# The lists and dicts at the top of the package's files.
+TABLES = ["ENDINGS", "LOOP"]
 WALKED = ["zip", "enumerate", "reversed", "range", "items", "keys", "values"]
 WALKERS = ["list", "tuple", "dict", "sorted", "sum", "any", "all", "enumerate", "zip", "min", "max", "join"]
 
@@ -47,9 +49,38 @@ def faults_of(source):
             child.parent = node
     faults = sign_faults(source) + top_faults(tree)
     for node in ast.walk(tree):
-        for look in (node_faults, name_faults, call_faults, place_faults, def_faults):
+        for look in (node_faults, name_faults, call_faults, place_faults, def_faults, class_faults):
             faults.extend((rule, getattr(node, "lineno", 0)) for rule in look(node))
     return faults
+
+
+def class_faults(node):
+    """A class is called, a base, or beside isinstance, except, raise; a list or dict of the top is handed on as a copy."""
+    above = getattr(node, "parent", None)
+    if not isinstance(node, ast.Name) or not isinstance(node.ctx, ast.Load):
+        return
+    called = getattr(getattr(above, "func", None), "id", "")
+    if re.fullmatch("[A-Z][a-z][A-Za-z]*", node.id) and node.id not in ("None", "True", "False"):
+        at_base = isinstance(above, ast.ClassDef) or isinstance(above, ast.Attribute) and above.attr == "__init__"
+        asked = isinstance(above, (ast.ExceptHandler, ast.Tuple)) or called in ("isinstance", node.id)
+        if not at_base and not asked:
+            yield "L18"
+    if re.fullmatch("[A-Z][A-Z_]+", node.id) and node.id in TABLES:
+        read = isinstance(above, (ast.Subscript, ast.Compare, ast.For, ast.comprehension))
+        read = read or isinstance(above, ast.Attribute) and above.attr in ("get", "items", "keys", "values", "index")
+        if not read and called not in ("dict", "list", "tuple", "len", "sorted", "sum", "min", "max"):
+            yield "L15"
+
+
+def members_of(source):
+    """(methods, values): the names of the methods of a file's classes, and of what is given to their objects."""
+    methods, values = set(), set()
+    for node in ast.walk(ast.parse(source)):
+        if isinstance(node, ast.ClassDef):
+            methods.update(part.name for part in node.body if isinstance(part, ast.FunctionDef))
+        if isinstance(node, ast.Attribute) and isinstance(node.ctx, ast.Store):
+            values.add(node.attr)
+    return methods, values
 
 
 def sign_faults(source):

@@ -28,6 +28,20 @@ def begun_elsewhere(drawing):
     return [list(rows) for rows in product(*turns)]
 
 
+def curls(count):
+    """A row of that many curls."""
+    row = []
+    for name in range(1, count + 1):
+        row.extend([(name, 0, 1), (name, 1, 1)])
+    return row
+
+
+def renamed_drawing(drawing, names):
+    """The drawing with other names, each row begun with its least passing."""
+    rows = [[(names.get(name, name), way, hand) for name, way, hand in row] for row in drawing]
+    return [row[row.index(min(row)):] + row[:row.index(min(row))] if row else [] for row in rows]
+
+
 def orders(count):
     """All rings of the passings of count crossings, one for each way in which the first stands first."""
     spots = [(name, way) for name in range(1, count + 1) for way in (0, 1)]

@@ -3,17 +3,9 @@ import unittest
 from knotwise.drawings import checked, hand_of, names_of, next_of, seated, spots_of, string_of
 from knotwise.errors import NoDrawing, NoName, NoSpot
 from samples import (BENT, CHAIN, CURL, EIGHT, FLAT, HALF_HOPF, HOPF, TREFOIL, TWISTED, assert_own, begun_elsewhere,
-                     small_drawings)
+                     curls, small_drawings)
 
 LONG = 10 ** 60 - 1
-
-
-def curls(count):
-    """A row of that many curls."""
-    row = []
-    for name in range(1, count + 1):
-        row.extend([(name, 0, 1), (name, 1, 1)])
-    return row
 
 
 class SeatedTest(unittest.TestCase):

@@ -1,7 +1,7 @@
 import unittest
 from inspect import isclass, isfunction, signature
 
-from knotwise import drawings, errors, sides, texts
+from knotwise import brackets, drawings, errors, fits, moves, polys, sides, texts
 
 # The names and arguments of the document's interface.
 FUNCTIONS = {
@@ -10,7 +10,16 @@ FUNCTIONS = {
     texts: ["text_of(drawing)", "read_text(text)"],
     sides: ["sides_of(drawing)", "regions(drawing)", "pieces(drawing)", "flat(drawing)",
             "near(drawing, over, under, turned, hand)"],
+    moves: ["move_of(told)"],
+    fits: ["lessening(drawing)"],
+    polys: ["added(one, other)", "times(one, other)", "shifted(one, by, factor)", "turned(one)", "raised(one, count)",
+            "poly_text(one)"],
+    brackets: ["rings(drawing, choice)", "power(drawing, choice)", "bracket_by_all(drawing)", "opened(drawing, names)",
+               "bracket(drawing)"],
 }
+MOVES = ["Uncurl(name)", "Curl(name, spot, first, hand)", "Part(name, second)",
+         "Lay(name, second, over, under, turned, hand)", "Slide(name, second, third, turn)"]
+METHODS = ["told(self)", "done(self, drawing)", "back(self, drawing)", "renamed(self, names)"]
 
 
 class InterfaceTest(unittest.TestCase):
@@ -20,6 +29,14 @@ class InterfaceTest(unittest.TestCase):
                 function = getattr(module, form.split("(")[0])
                 self.assertTrue(isfunction(function))
                 self.assertEqual(function.__name__ + str(signature(function)), form)
+
+    def test_moves_and_their_methods(self):
+        for form in MOVES:
+            kind = getattr(moves, form.split("(")[0])
+            self.assertEqual(kind.__name__ + str(signature(kind)), form)
+            for method in METHODS:
+                function = getattr(kind, method.split("(")[0])
+                self.assertEqual(function.__name__ + str(signature(function)), method)
 
     def test_refusals_with_values(self):
         self.assertTrue(isclass(errors.NoDrawing) and isclass(errors.NoText))

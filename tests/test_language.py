@@ -3,7 +3,7 @@ import os
 import re
 import unittest
 
-from language import faults_of
+from language import TABLES, faults_of, members_of
 
 HERE = os.path.dirname(os.path.abspath(__file__))
 PACKAGE = os.path.join(os.path.dirname(HERE), "knotwise")
@@ -17,7 +17,9 @@ WRONG = {
     "L10": ["def f(x):\n" + "    x = 1\n" * 40, "A = " + "1" * 120 + "\n"],
     "L12": ["def _f(x):\n    pass\n"],
     "L14": ["A = 1\t\n"],
-    "L15": ["A = [[1]]\n", "A = 1\nA = 2\n", "def f(max):\n    pass\n", "def f(x):\n    next = x\n"],
+    "L15": ["A = [[1]]\n", "A = 1\nA = 2\n", "def f(max):\n    pass\n", "def f(x):\n    next = x\n",
+            "def f(x):\n    return LOOP\n", "def f(x):\n    LOOP.update(x)\n", "def f(x):\n    x(LOOP)\n"],
+    "L18": ["from knotwise.moves import Move\nA = [Move]\n", "from knotwise.moves import Move\ndef f():\n    return Move\n"],
     "L16": ["from .errors import NoName\n", "from os import path\n"],
     "L17": ["# a type\n", "def f(x):\n    return x.open\n"],
     "L19": ["def f(x):\n    raise ValueError\n", "def f(x):\n    try:\n        x()\n    except TypeError:\n        pass\n"],
@@ -64,6 +66,23 @@ class LanguageTest(unittest.TestCase):
                     source = source_of(node.module.split(".")[1] + ".py")
                     for alias in node.names:
                         self.assertRegex(source, f"(?m)^((def|class) {alias.name}\\b|{alias.name} =)")
+
+    def test_no_name_is_a_method_and_a_value(self):
+        methods, values = set(), set()
+        for name in files():
+            found = members_of(source_of(name))
+            methods.update(found[0])
+            values.update(found[1])
+        self.assertEqual(methods & values, set())
+        self.assertTrue(methods >= {"told", "done", "back", "renamed"} and values >= {"word", "name", "turned"})
+
+    def test_all_tables_are_known(self):
+        found = []
+        for name in files():
+            for node in ast.parse(source_of(name)).body:
+                if isinstance(node, ast.Assign) and isinstance(node.value, (ast.List, ast.Dict)):
+                    found.append(node.targets[0].id)
+        self.assertEqual(sorted(found), sorted(TABLES))
 
     def test_wrong_forms_are_seen(self):
         for rule, sources in WRONG.items():

@@ -1,13 +1,14 @@
 import unittest
 from itertools import combinations
 
-from knotwise.drawings import checked, hand_of, names_of, next_of, spots_of, string_of
+from knotwise.drawings import hand_of, names_of, next_of, spots_of, string_of
 from knotwise.errors import NoSpot
 from knotwise.groups import grouped, together
 from knotwise.sides import flat, near, pieces, regions, sides_of
 from plane import beside, polygon_drawings, winding
 from samples import (BENT, CHAIN, CURL, CURL_LEFT, EIGHT, FLAT, HALF_HOPF, HOPF, HOPF_LEFT, LAID, TREFOIL, TWISTED,
                      assert_own, begun_elsewhere, small_drawings)
+from walks import laid, lays
 
 LEFT, RIGHT = 0, 1
 COMES, LEAVES = 0, 1
@@ -46,32 +47,6 @@ def walked_regions(drawing):
                 waiting.extend(meets[at])
         found.add(tuple(sorted(region)))
     return sorted(list(region) for region in found)
-
-
-def laid(drawing, over, under, turned, hand):
-    """The drawing after a lay of two new crossings, by point 17."""
-    first, second = max([0] + names_of(drawing)) + 1, max([0] + names_of(drawing)) + 2
-    rows = [list(row) for row in drawing]
-    put(rows, over, [(first, 0, hand), (second, 0, -hand)])
-    unders = [(first, 1, hand), (second, 1, -hand)]
-    put(rows, under, unders if turned == 0 else unders[::-1])
-    return checked(rows)
-
-
-def put(rows, spot, passings):
-    row = rows[string_of(rows, spot)]
-    place = 0 if spot[1] == 2 else [passing[:2] for passing in row].index(spot) + 1
-    row[place:place] = passings
-
-
-def lays(drawing):
-    """All (over, under, turned, hand) of lays that can be done."""
-    for over in spots_of(drawing):
-        for under in spots_of(drawing):
-            if over != under or over[1] != 2:
-                for turned in (0, 1):
-                    for hand in (1, -1):
-                        yield over, under, turned, hand
 
 
 class SidesTest(unittest.TestCase):
