@@ -1,7 +1,7 @@
 """Drawings and small helpers that several tests share."""
 
 import copy
-from itertools import permutations, product
+from itertools import combinations, permutations, product
 
 TREFOIL = [[(1, 0, 1), (2, 1, 1), (3, 0, 1), (1, 1, 1), (2, 0, 1), (3, 1, 1)]]
 EIGHT = [[(1, 0, -1), (4, 1, 1), (3, 0, 1), (1, 1, -1), (2, 0, -1), (3, 1, 1), (4, 0, 1), (2, 1, -1)]]
@@ -64,6 +64,22 @@ def small_drawings(most=2):
                 yield cut(spots, hands, [])
                 for place in range(2 * count + 1):
                     yield cut(spots, hands, [place])
+
+
+def assert_as_flat(case, drawing):
+    """What point 16 says of every flat drawing."""
+    where = {passing[:2]: string for string, row in enumerate(drawing) for passing in row}
+    hands = {passing[0]: passing[2] for row in drawing for passing in row}
+    for one, other in combinations(range(len(drawing)), 2):
+        over = [hand for name, hand in hands.items() if (where[name, 0], where[name, 1]) == (one, other)]
+        under = [hand for name, hand in hands.items() if (where[name, 0], where[name, 1]) == (other, one)]
+        case.assertEqual(len(over + under) % 2, 0, drawing)
+        case.assertEqual(sum(over), sum(under), drawing)
+    for row in drawing:
+        spots = [passing[:2] for passing in row]
+        for name, way in spots:
+            if way == 0 and (name, 1) in spots:
+                case.assertEqual((spots.index((name, 0)) - spots.index((name, 1))) % 2, 1, drawing)
 
 
 def kept_within(value):

@@ -1,7 +1,8 @@
 import unittest
 from inspect import isclass, isfunction, signature
 
-from knotwise import brackets, drawings, errors, fits, moves, polys, sides, texts
+from knotwise import (braids, brackets, colours, drawings, errors, fits, makings, marks, moves, polys, sides,
+                      texts)
 
 # The names and arguments of the document's interface.
 FUNCTIONS = {
@@ -16,6 +17,12 @@ FUNCTIONS = {
             "poly_text(one)"],
     brackets: ["rings(drawing, choice)", "power(drawing, choice)", "bracket_by_all(drawing)", "opened(drawing, names)",
                "bracket(drawing)"],
+    marks: ["writhe(drawing)", "linking(drawing)", "levelled(drawing)"],
+    colours: ["bows(drawing)", "bow_at(drawing)", "fits_colours(drawing, p, numbers)", "all_colourings(drawing, p)",
+              "basis(drawing, p)", "count_colourings(drawing, p)"],
+    makings: ["switched(drawing)", "reflected(drawing)", "run_back(drawing, string)", "beside(one, other)",
+              "tied(one, spot, other, other_spot)"],
+    braids: ["closed(letters, strands)"],
 }
 MOVES = ["Uncurl(name)", "Curl(name, spot, first, hand)", "Part(name, second)",
          "Lay(name, second, over, under, turned, hand)", "Slide(name, second, third, turn)"]

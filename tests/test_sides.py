@@ -1,5 +1,4 @@
 import unittest
-from itertools import combinations
 
 from knotwise.drawings import hand_of, names_of, next_of, spots_of, string_of
 from knotwise.errors import NoSpot
@@ -7,7 +6,7 @@ from knotwise.groups import grouped, together
 from knotwise.sides import flat, near, pieces, regions, sides_of
 from plane import beside, polygon_drawings, winding
 from samples import (BENT, CHAIN, CURL, CURL_LEFT, EIGHT, FLAT, HALF_HOPF, HOPF, HOPF_LEFT, LAID, TREFOIL, TWISTED,
-                     assert_own, begun_elsewhere, small_drawings)
+                     assert_as_flat, assert_own, begun_elsewhere, small_drawings)
 from walks import laid, lays
 
 LEFT, RIGHT = 0, 1
@@ -177,25 +176,7 @@ class FlatTest(unittest.TestCase):
         drawings = [drawing for drawing in drawings if flat(drawing)]
         self.assertGreater(len(drawings), 200)
         for drawing in drawings:
-            self.two_strings_hold(drawing)
-            self.own_crossings_hold(drawing)
-
-    def two_strings_hold(self, drawing):
-        for one, other in combinations(range(len(drawing)), 2):
-            hands = {(one, other): [], (other, one): []}
-            for name in names_of(drawing):
-                both = (string_of(drawing, (name, 0)), string_of(drawing, (name, 1)))
-                if both in hands:
-                    hands[both].append(hand_of(drawing, name))
-            self.assertEqual(len(hands[(one, other)] + hands[(other, one)]) % 2, 0)
-            self.assertEqual(sum(hands[(one, other)]), sum(hands[(other, one)]))
-
-    def own_crossings_hold(self, drawing):
-        for row in drawing:
-            spots = [passing[:2] for passing in row]
-            for name, way in spots:
-                if way == 0 and (name, 1) in spots:
-                    self.assertEqual((spots.index((name, 0)) - spots.index((name, 1))) % 2, 1)
+            assert_as_flat(self, drawing)
 
 
 class NearTest(unittest.TestCase):
