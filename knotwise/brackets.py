@@ -1,7 +1,7 @@
 """Crossings split along or against, and the bracket told in two ways (points 24 to 26)."""
 
 from knotwise.drawings import hand_of, names_of, next_of, spots_of
-from knotwise.groups import grouped
+from knotwise.groups import grouped, one_of_each
 from knotwise.polys import LOOP, added, raised, shifted, times
 from knotwise.sides import coming_of
 
@@ -44,16 +44,7 @@ def power(drawing, choice):
 
 def choices_of(names):
     """All choices for these names."""
-    choices = [{}]
-    for name in names:
-        more = []
-        for choice in choices:
-            for split in (ALONG, AGAINST):
-                wider = dict(choice)
-                wider[name] = split
-                more.append(wider)
-        choices = more
-    return choices
+    return [dict(zip(names, splits)) for splits in one_of_each([(ALONG, AGAINST) for name in names])]
 
 
 def bracket_by_all(drawing):

@@ -2,6 +2,7 @@
 
 from knotwise.drawings import names_of, spots_on
 from knotwise.errors import NoPrime, TooMany
+from knotwise.groups import one_of_each
 from knotwise.sides import coming_of
 
 PRIMES = (3, 5, 7)
@@ -72,17 +73,6 @@ def power_of(p, count):
     return product
 
 
-def all_lists(p, count):
-    """All lists of so many numbers from 0 to p - 1, sorted."""
-    lists = [[]]
-    for step in range(count):
-        longer = []
-        for numbers in lists:
-            longer.extend([numbers + [number] for number in range(p)])
-        lists = longer
-    return lists
-
-
 def all_colourings(drawing, p):
     """The sorted colourings, gone through one by one; NoPrime, then TooMany."""
     refuse_other(p)
@@ -90,7 +80,8 @@ def all_colourings(drawing, p):
     if power_of(p, count) > MOST_GONE_THROUGH:
         raise TooMany("too many lists of numbers to go through")
     places = places_at(drawing)
-    return [numbers for numbers in all_lists(p, count) if keeps_all(places, p, numbers)]
+    lists = one_of_each([list(range(p)) for bow in range(count)])
+    return [numbers for numbers in lists if keeps_all(places, p, numbers)]
 
 
 def equation_of(three, count, p):

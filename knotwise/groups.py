@@ -1,4 +1,4 @@
-"""Members put together by pairs: what hangs together with a third hangs together."""
+"""Members put together: by pairs, where what hangs together with a third hangs together, or one of each."""
 
 
 def grouped(members, pairs):
@@ -18,3 +18,14 @@ def grouped(members, pairs):
 def together(groups, one, other):
     """Whether one and other are in one of the groups."""
     return any([one in group and other in group for group in groups])
+
+
+def one_of_each(lists):
+    """All lists of one member of each of the lists, in the order that the lists have."""
+    picked = [[]]
+    for members in lists:
+        longer = []
+        for ahead in picked:
+            longer.extend([ahead + [member] for member in members])
+        picked = longer
+    return picked

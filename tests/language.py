@@ -29,9 +29,13 @@ quit setattr super vars sys""".split()
 KEYWORDS = {"sorted": ["key", "reverse"], "min": ["key", "default"], "max": ["key", "default"], "sum": ["start"],
             "enumerate": ["start"], "zip": ["strict"]}
 # The lists and dicts at the top of the package's files.
-TABLES = ["ENDINGS", "LOOP"]
+TABLES = ["ENDINGS", "LOOP", "MARKS"]
 WALKED = ["zip", "enumerate", "reversed", "range", "items", "keys", "values"]
 WALKERS = ["list", "tuple", "dict", "sorted", "sum", "any", "all", "enumerate", "zip", "min", "max", "join"]
+
+CHANGES = ["append", "clear", "extend", "insert", "pop", "remove", "reverse", "setdefault", "update"]
+# Values of objects that may be called like a method of Python's own values.
+FREE_VALUES = ["count", "index", "title", "find", "get", "join", "lower", "upper", "split", "strip", "copy", "add"]
 
 
 def methods_of_python():
@@ -49,7 +53,7 @@ def faults_of(source):
             child.parent = node
     faults = sign_faults(source) + top_faults(tree)
     for node in ast.walk(tree):
-        for look in (node_faults, name_faults, call_faults, place_faults, def_faults, class_faults):
+        for look in (node_faults, name_faults, call_faults, place_faults, def_faults, class_faults, use_faults, walk_faults):
             faults.extend((rule, getattr(node, "lineno", 0)) for rule in look(node))
     return faults
 
@@ -70,6 +74,37 @@ def class_faults(node):
         read = read or isinstance(above, ast.Attribute) and above.attr in ("get", "items", "keys", "values", "index")
         if not read and called not in ("dict", "list", "tuple", "len", "sorted", "sum", "min", "max"):
             yield "L15"
+
+
+def use_faults(node):
+    """Python's own are called where they stand; no annotation; no set of numbers that is kept."""
+    above = getattr(node, "parent", None)
+    if isinstance(node, ast.AnnAssign) or getattr(node, "annotation", None) or getattr(node, "returns", None):
+        yield "L21"
+    if isinstance(node, ast.Set) and len(node.elts) > 2 and not isinstance(above, ast.Compare):
+        yield "L13"
+    called = isinstance(above, ast.Call) and above.func is node or isinstance(above, ast.keyword) and above.arg == "key"
+    if isinstance(node, ast.Attribute) and node.attr in METHODS and not called:
+        yield "L25"
+    if isinstance(node, ast.Name) and node.id in OWN_NAMES and node.id.islower() and not called:
+        by_isinstance = above.parent if isinstance(above, ast.Tuple) else above
+        if getattr(getattr(by_isinstance, "func", None), "id", "") != "isinstance":
+            yield "L22"
+
+
+def walk_faults(node):
+    """What a loop walks by its name is not changed in the loop."""
+    if not isinstance(node, ast.For):
+        return
+    walked = [part.id for part in ast.walk(node.iter) if isinstance(part, ast.Name)]
+    if isinstance(node.iter, ast.Call) and getattr(node.iter.func, "id", "") in ("list", "tuple", "sorted", "range"):
+        return
+    for part in [inner for row in node.body for inner in ast.walk(row)]:
+        kept = getattr(part, "value", None)
+        if isinstance(kept, ast.Name) and kept.id in walked:
+            stored = isinstance(part, ast.Subscript) and isinstance(part.ctx, ast.Store)
+            if stored or isinstance(part, ast.Attribute) and part.attr in CHANGES:
+                yield "L23"
 
 
 def members_of(source):

@@ -1,8 +1,8 @@
 import unittest
 from inspect import isclass, isfunction, signature
 
-from knotwise import (braids, brackets, colours, drawings, errors, fits, makings, marks, moves, polys, sides,
-                      texts)
+from knotwise import (braids, brackets, colours, desk, drawings, errors, fits, makings, marks, moves, polys, search,
+                      settled, sides, texts, verdicts)
 
 # The names and arguments of the document's interface.
 FUNCTIONS = {
@@ -23,10 +23,15 @@ FUNCTIONS = {
     makings: ["switched(drawing)", "reflected(drawing)", "run_back(drawing, string)", "beside(one, other)",
               "tied(one, spot, other, other_spot)"],
     braids: ["closed(letters, strands)"],
+    settled: ["settled(drawing)", "settling(drawing)"],
+    search: ["walked(drawing, row)", "back_row(drawing, row)", "reach(drawing, length)", "simplest(drawing, length)"],
+    verdicts: ["mark_by(word)", "verdict(one, other, length=2)"],
 }
 MOVES = ["Uncurl(name)", "Curl(name, spot, first, hand)", "Part(name, second)",
          "Lay(name, second, over, under, turned, hand)", "Slide(name, second, third, turn)"]
 METHODS = ["told(self)", "done(self, drawing)", "back(self, drawing)", "renamed(self, names)"]
+DESK = ["keep(self, word, text)", "move(self, word, told)", "undo(self, word)", "words(self)", "shown(self, word)",
+        "deeds(self, word)", "marks(self, word)", "compared(self, one, other, length=2)"]
 
 
 class InterfaceTest(unittest.TestCase):
@@ -44,6 +49,13 @@ class InterfaceTest(unittest.TestCase):
             for method in METHODS:
                 function = getattr(kind, method.split("(")[0])
                 self.assertEqual(function.__name__ + str(signature(function)), method)
+
+    def test_the_desk_and_its_methods(self):
+        self.assertTrue(isclass(desk.Desk))
+        self.assertEqual(str(signature(desk.Desk)), "()")
+        for method in DESK:
+            function = getattr(desk.Desk, method.split("(")[0])
+            self.assertEqual(function.__name__ + str(signature(function)), method)
 
     def test_refusals_with_values(self):
         self.assertTrue(isclass(errors.NoDrawing) and isclass(errors.NoText))

@@ -3,7 +3,7 @@ import os
 import re
 import unittest
 
-from language import TABLES, faults_of, members_of
+from language import FREE_VALUES, METHODS, TABLES, faults_of, members_of, methods_of_python
 
 HERE = os.path.dirname(os.path.abspath(__file__))
 PACKAGE = os.path.join(os.path.dirname(HERE), "knotwise")
@@ -16,6 +16,7 @@ WRONG = {
     "L8": ["def f(x):\n    return hash(x)\n", "def f(x):\n    return chr(x)\n"],
     "L10": ["def f(x):\n" + "    x = 1\n" * 40, "A = " + "1" * 120 + "\n"],
     "L12": ["def _f(x):\n    pass\n"],
+    "L13": ["def f(x):\n    return {1, 2, 3}\n"],
     "L14": ["A = 1\t\n"],
     "L15": ["A = [[1]]\n", "A = 1\nA = 2\n", "def f(max):\n    pass\n", "def f(x):\n    next = x\n",
             "def f(x):\n    return LOOP\n", "def f(x):\n    LOOP.update(x)\n", "def f(x):\n    x(LOOP)\n"],
@@ -24,10 +25,14 @@ WRONG = {
     "L17": ["# a type\n", "def f(x):\n    return x.open\n"],
     "L19": ["def f(x):\n    raise ValueError\n", "def f(x):\n    try:\n        x()\n    except TypeError:\n        pass\n"],
     "L20": ["def f(x):\n    return x is f\n"],
-    "L22": ["def f(x):\n    return sum(x, key=f)\n"],
-    "L23": ["def f(x):\n    y = range(x)\n", "def f(x):\n    return x.items()\n"],
+    "L21": ["def f(x: int):\n    pass\n", "def f(x) -> int:\n    pass\n"],
+    "L22": ["def f(x):\n    return sum(x, key=f)\n", "def f(x):\n    return len\n", "def f(x):\n    x(len)\n"],
+    "L23": ["def f(x):\n    y = range(x)\n", "def f(x):\n    return x.items()\n",
+            "def f(x):\n    for y in x:\n        x.append(y)\n", "def f(x):\n    for y in x:\n        x[y] = 1\n",
+            "def f(x):\n    for y, z in x.items():\n        x.pop(y)\n"],
     "L24": ["def f(x):\n    y = set(x)\n", "def f(x):\n    for y in set(x):\n        pass\n"],
-    "L25": ["def f(x):\n    x.sort()\n", "def f(x):\n    return x.encode()\n"],
+    "L25": ["def f(x):\n    x.sort()\n", "def f(x):\n    return x.encode()\n",
+            "def f(x):\n    return x.append\n"],
     "L27": ["A = '%'\n", "def f(x):\n    return 2 ** x\n"],
 }
 
@@ -74,7 +79,14 @@ class LanguageTest(unittest.TestCase):
             methods.update(found[0])
             values.update(found[1])
         self.assertEqual(methods & values, set())
-        self.assertTrue(methods >= {"told", "done", "back", "renamed"} and values >= {"word", "name", "turned"})
+        self.assertTrue(methods >= {"told", "done", "back", "renamed", "marks"} and values >= {"word", "name", "turned"})
+
+    def test_members_are_not_called_like_python_s_own(self):
+        for name in files():
+            methods, values = members_of(source_of(name))
+            self.assertEqual(methods & methods_of_python() - set(METHODS) - {"add", "discard"}, set())
+            self.assertEqual(values & methods_of_python() - set(FREE_VALUES), set())
+            self.assertEqual(values & {"args", "format"}, set())
 
     def test_all_tables_are_known(self):
         found = []

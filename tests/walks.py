@@ -3,7 +3,7 @@
 from itertools import permutations
 from random import Random
 
-from knotwise.drawings import checked, hand_of, names_of, spots_of, string_of
+from knotwise.drawings import checked, names_of, spots_of, string_of
 
 
 def put(rows, spot, passings):
@@ -61,18 +61,24 @@ def next_in(drawing):
 
 def fits(drawing, told):
     """Whether an uncurl, part or slide fits, by point 17."""
-    behind = next_in(drawing)
+    return fits_by(next_in(drawing), hands_in(drawing), told)
 
+
+def hands_in(drawing):
+    return {name: hand for row in drawing for name, way, hand in row}
+
+
+def fits_by(behind, hand_by, told):
     def beside(one, other):
         return behind[one] == other or behind[other] == one
 
     if told[0] == "uncurl":
         return beside((told[1], 0), (told[1], 1))
-    hands = [hand_of(drawing, name) for name in told[1:4]]
     if told[0] == "part":
         j, k = told[1:]
-        return beside((j, 0), (k, 0)) and beside((j, 1), (k, 1)) and hands[0] != hands[1]
+        return beside((j, 0), (k, 0)) and beside((j, 1), (k, 1)) and hand_by[j] != hand_by[k]
     a, b, c, t = told[1:]
+    hands = [hand_by[name] for name in (a, b, c)]
     pairs = [((a, 0), (b, 0), t), ((a, 1), (c, 0), t * hands[1] * hands[2]), ((b, 1), (c, 1), t * hands[0] * hands[2])]
     return all(behind[one] == other if turn == 1 else behind[other] == one for one, other, turn in pairs)
 
@@ -83,7 +89,8 @@ def fitting(drawing):
     told = [("uncurl", name) for name in names]
     told.extend(("part", j, k) for j, k in permutations(names, 2))
     told.extend(("slide", a, b, c, t) for a, b, c in permutations(names, 3) for t in (1, -1))
-    return sorted(one for one in told if fits(drawing, one))
+    behind, hand_by = next_in(drawing), hands_in(drawing)
+    return sorted(one for one in told if fits_by(behind, hand_by, one))
 
 
 def triangle(turn, hands, names=(1, 2, 3)):
